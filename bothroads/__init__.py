@@ -1,0 +1,1 @@
+"""Bothroads: one thing kept at two ends, and what letters on slow roads must tell."""

@@ -1,0 +1,42 @@
+"""[21]: every name of the interface that has landed stands in its file, with its parameters as they are named."""
+
+import importlib
+import inspect
+import unittest
+
+INTERFACE = {
+    "machines": (
+        "is_word(thing), is_machine(thing), letters_in(machine), state_behind(machine, word), takes(machine, word), "
+        "least(machine), are_alike(one, other), parting_word(one, other)"
+    ),
+    "doings": (
+        "doing(machine, word), product(one, other), doings(machine), is_doing(machine, thing), "
+        "word_for(machine, one), halted(one), halting(machine), commutes(machine), crossed(machine), "
+        "surroundings(machine, one, other), is_surroundings(machine, one, other, thing)"
+    ),
+}
+ERRORS = {"NoPlace": "place", "BadLine": "line", "CanNot": "", "TooMuch": "", "Unfit": ""}
+
+
+class InterfaceTest(unittest.TestCase):
+    def test_functions_are_defined_in_their_file_with_their_parameters(self):
+        for name, listed in INTERFACE.items():
+            module = importlib.import_module("bothroads." + name)
+            for told in listed.replace("), ", ")\n").split("\n"):
+                own, _, names = told.rstrip(")").partition("(")
+                function = getattr(module, own)
+                self.assertEqual(function.__module__, "bothroads." + name, own)
+                self.assertTrue(inspect.isfunction(function), own)
+                self.assertEqual(list(inspect.signature(function).parameters), names.split(", "), own)
+
+    def test_error_classes_are_defined_in_their_file(self):
+        module = importlib.import_module("bothroads.errors")
+        for name, attribute in ERRORS.items():
+            own = getattr(module, name)
+            self.assertEqual(own.__module__, "bothroads.errors")
+            if attribute:
+                self.assertEqual(list(inspect.signature(own).parameters), [attribute])
+
+
+if __name__ == "__main__":
+    unittest.main()
