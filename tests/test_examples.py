@@ -1,6 +1,8 @@
-"""The examples of DOC.md, section by section, as they stand there."""
+"""The examples of DOC.md, section by section, as they stand there, and those of README.md."""
 
 import ast
+import doctest
+import pathlib
 import unittest
 
 from bothroads import doings, errors, machines
@@ -78,6 +80,11 @@ class ExamplesTest(unittest.TestCase):
 
     def test_section_5(self):
         self.assertEqual(self.run_examples(SECTION_5), 8)
+
+    def test_readme(self):
+        readme = pathlib.Path(__file__).resolve().parent.parent / "README.md"
+        told = doctest.testfile(str(readme), module_relative=False)
+        self.assertEqual((told.failed, told.attempted > 0), (0, True))
 
 
 if __name__ == "__main__":
