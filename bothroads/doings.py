@@ -19,7 +19,11 @@ MOST_DOINGS = 48
 def doing(machine, word):
     """Give the DOING of word by machine, however many DOINGS there are."""
     check_letters(machine, word)
-    small = least(machine)
+    return doing_by(least(machine), word)
+
+
+def doing_by(small, word):
+    """Give the DOING of word, of letters that it has, by a least MACHINE."""
     return tuple([state_from(small, state, word) for state in range(len(small[0]))])
 
 
@@ -37,11 +41,17 @@ def doings_of_letters(small):
 def words_to_doings(small):
     """Give, for each DOING by a least MACHINE, the least of its shortest WORDS; TooMuch if they are too many."""
     letters = doings_of_letters(small)
-    nothing_done = tuple(range(len(small[0])))
-    words = first_words(nothing_done, lambda own: [product(own, letter) for letter in letters], MOST_DOINGS)
+    words = first_words(doing_by(small, ()), lambda own: [product(own, letter) for letter in letters], MOST_DOINGS)
     if len(words) > MOST_DOINGS:
         raise TooMuch()
     return words
+
+
+def counted_least(machine):
+    """Give the least MACHINE alike to machine; TooMuch if it has too many DOINGS."""
+    small = least(machine)
+    words_to_doings(small)
+    return small
 
 
 def doings(machine):
@@ -92,9 +102,7 @@ def halting(machine):
 
 def crossed_letters(machine):
     """Give the least pair of letters whose DOINGS do not commute, None if all do; TooMuch ahead of this."""
-    small = least(machine)
-    words_to_doings(small)
-    letters = doings_of_letters(small)
+    letters = doings_of_letters(counted_least(machine))
     for low in range(len(letters)):
         for high in range(low + 1, len(letters)):
             if product(letters[low], letters[high]) != product(letters[high], letters[low]):
@@ -144,7 +152,7 @@ def is_surroundings(machine, one, other, thing):
     words = words_to_doings(small)
     first = fitting(words, one)
     second = fitting(words, other)
-    if not is_pair_of_words(thing, letters_in(small)):
+    if not are_words(thing, 2, letters_in(small)):
         return False
     ahead, behind = thing
     state = state_from(small, 0, ahead)
@@ -152,8 +160,8 @@ def is_surroundings(machine, one, other, thing):
     return (state_from(small, first[state], behind) in ends) != (state_from(small, second[state], behind) in ends)
 
 
-def is_pair_of_words(thing, many):
-    """Tell whether thing is a pair of WORDS of the letters 1, 2, .. up to many."""
-    if not isinstance(thing, tuple) or len(thing) != 2:
+def are_words(thing, many, letters):
+    """Tell whether thing is a tuple of so many WORDS of the letters 1, 2, .. up to letters."""
+    if not isinstance(thing, tuple) or len(thing) != many:
         return False
-    return all([is_word(own) and max(own, default=1) <= many for own in thing])
+    return all([is_word(own) and max(own, default=1) <= letters for own in thing])

@@ -19,3 +19,8 @@ def are_places(thing, many):
 def is_set_of_places(thing, many):
     """Tell whether thing is an ascending tuple, without duplicates, of numbers 0, 1, .. below many."""
     return are_places(thing, many) and all([low < high for low, high in zip(thing, thing[1:])])
+
+
+def tupled(value):
+    """Give value with tuples for lists, at every depth."""
+    return tuple([tupled(own) for own in value]) if isinstance(value, (list, tuple)) else value

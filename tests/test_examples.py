@@ -5,7 +5,10 @@ import doctest
 import pathlib
 import unittest
 
-from bothroads import doings, errors, machines
+from calls import shown
+from bothroads import doings, errors, keepers, machines, ranks, runs, weavings
+
+MODULES = (errors, machines, doings, runs, weavings, keepers, ranks)
 
 SECTION_4 = """
     >>> odd, begins, last = (((1,), (0,)), (1,)), (((1, 2), (1, 1), (2, 2)), (1,)), (((1, 0), (1, 0)), (1,))
@@ -40,6 +43,87 @@ SECTION_5 = """
     raises Unfit()
 """
 
+SECTION_6 = """
+    >>> meet = ((0, 2), (1, 1), (1, 0), (1, 3), (0, 0))
+    >>> is_run(meet), roads(meet), is_at_rest(meet), can_take(meet, 0), can_take(meet, 1), puts_of(meet)
+    (True, ((3,), ()), False, True, False, ((0, 2), (1, 1), (1, 3)))
+    >>> [seen(meet, own) for own in (0, 1, 2)], known(meet, 0), known(meet, 1)
+    ([(), (), (0, 1)], (0, 1), (0, 1, 2))
+    >>> settled(meet), settled(((0, 1), (1, 1))), exchanged(meet)
+    (((0, 2), (1, 1), (1, 0), (1, 3), (0, 0), (0, 0)), ((0, 1), (1, 1), (0, 0), (1, 0)), ((1, 2), (0, 1), (0, 0), (0, 3), (1, 0)))
+    >>> is_run(()), is_run(((0, 0),)), is_run(((0, 1), (0, 0))), is_run(((0, 1), (1, 0), (1, 0))), is_run(((2, 1),)), is_run([(0, 1)]), is_run(((0, True),)), is_run(((0, -1),))
+    (True, False, False, False, False, False, False, False)
+    >>> roads(()), is_at_rest(()), puts_of(()), known((), 1), settled(())
+    (((), ()), True, (), (), ())
+    >>> seen(meet, 3)
+    raises NoPlace(place=3)
+"""
+
+SECTION_7 = """
+    >>> crossed_run, last = ((0, 1), (1, 2), (0, 0), (1, 0)), (((1, 0), (1, 0)), (1,))
+    >>> weaving_count(crossed_run), order_of(crossed_run, 0), order_of(crossed_run, 1), states_come(last, crossed_run), answers_come(last, crossed_run)
+    (2, (0, 1), (1, 0), (0, 1), (False, True))
+    >>> weaving_to(last, crossed_run, 1), reads(crossed_run, (1, 0)), free_pairs(crossed_run), otherwise(crossed_run, (0, 1), (1, 0))
+    ((1, 0), (2, 1), ((0, 1),), ((0, 1),))
+    >>> later = ((0, 1), (0, 2), (1, 1), (1, 0), (1, 2), (0, 0))
+    >>> weaving_count(later), [weaving_at(later, k) for k in range(5)], place_of(later, (2, 0, 1, 3))
+    (5, [(0, 1, 2, 3), (0, 2, 1, 3), (0, 2, 3, 1), (2, 0, 1, 3), (2, 0, 3, 1)], 3)
+    >>> free_pairs(later), order_of(later, 0), order_of(later, 1), reads(later, (2, 0, 3)), reads(later, ())
+    (((0, 2), (1, 2), (1, 3)), (0, 1, 2), (2, 0, 3), (1, 1, 2), ())
+    >>> is_weaving(later, (0, 2, 3, 1)), is_weaving(later, (2, 3, 0, 1)), is_weaving(later, (0, 1, 2)), is_weaving_of(later, (0, 1, 2), (2, 0, 1)), is_weaving(later, [0, 1, 2, 3])
+    (True, False, False, True, False)
+    >>> states_come(last, later), answers_come(last, later), otherwise(later, (0, 1, 2, 3), (2, 0, 3, 1))
+    ((0,), (False,), ((0, 2), (1, 2), (1, 3)))
+    >>> weaving_to(last, later, 1)
+    raises CanNot()
+    >>> reads(later, (3, 0))
+    raises Unfit()
+    >>> weaving_at(later, 5)
+    raises NoPlace(place=5)
+"""
+
+SECTION_8 = """
+    >>> odd = (((1,), (0,)), (1,))
+    >>> count = ((False, True), (((1, 0),), ((0, 0),)), (((1,),), ((0,),)))
+    >>> lead = ((False, True), (((1, 0),), ((0, 1),)), (((1,),), ((0,),)))
+    >>> hear = ((False, True), (((1, 0),), ((0, 0),)), (((1, 1),), ((0, 0),)))
+    >>> is_keeper(lead), is_pair((count, count)), is_pair((lead, hear)), is_pair((lead, lead)), is_pair([count, count]), letters_of(lead), marks_of(lead), marks_of(hear)
+    (True, True, True, False, False, 1, 1, 2)
+    >>> twice = ((0, 1), (0, 1), (1, 0), (1, 1))
+    >>> stands_behind((lead, hear), twice), answers((lead, hear), twice), marks_sent((lead, hear), twice), bare_roads((lead, hear)), bare_roads((count, count))
+    ((0, 0), (False, False), (0, 1, 0), (1,), (0, 1))
+    >>> stands_along((lead, hear), twice)
+    [(0, 0), (1, 0), (0, 0), (0, 1), (0, 0)]
+    >>> later, last = ((False, True), (((1, 0), (0, 0)),) * 2, (((1,), (0,)),) * 2), (((1, 0), (1, 0)), (1,))
+    >>> cross = ((0, 1), (1, 2), (0, 0), (1, 0))
+    >>> answers((later, later), cross), refutes((later, later), last, cross), refutes((later, later), last, cross[:3]), refutes((later, later), last, ((0, 1), (1, 0)))
+    ((False, True), True, False, False)
+    >>> never = ((False,), (((0, 0), (0, 0)),), (((0,), (0,)),))
+    >>> refutes((never, never), last, ((0, 2), (1, 0), (1, 1), (0, 0))), refutes((never, never), last, cross), refutes((count, count), odd, ((0, 2), (1, 0)))
+    (True, False, False)
+    >>> answers((count, count), cross)
+    raises Unfit()
+    >>> refutes((count, count), last, ())
+    raises Unfit()
+"""
+
+SECTION_9 = """
+    >>> way = ((0, 1), (1, 2), (1, 0), (1, 3), (0, 0), (0, 1))
+    >>> ranks(way), bits(way), ranks_now(way), rank_order(way, 0), rank_order(way, 1), rank_weaving(way)
+    ((0, 1, 1, 2), (0, 0, 0, 1), (2, 1), (0, 1, 3), (0, 1, 2), (0, 1, 2, 3))
+    >>> laps(way), moved(way), ranks_told(0, (0, 1, 1, 0)), ranks_told(1, (1,))
+    (((0, (0,)), (1, (1, 2)), (2, (3,))), (1, 0), (0, 2, 2, 4), (3,))
+    >>> meet = ((1, 1), (0, 2), (0, 2), (0, 0), (1, 0), (1, 3), (0, 1), (1, 0))
+    >>> ranks(meet), moved(meet), rank_weaving(meet), rank_order(meet, 1), ranks_now(())
+    ((1, 0, 0, 1, 2), (0, 1, 2), (1, 2, 0, 3, 4), (1, 2, 0, 3), (0, 1))
+    >>> ranked_run(((0, 1), (1, 2), (0, 1)), (0, 1, 2)), ranked_run(((0, 1), (1, 2), (0, 1)), (0, 1, 0)), ranked_run(((1, 1), (0, 2)), (1, 2))
+    (((0, 1), (1, 2), (0, 0), (0, 1)), ((0, 1), (1, 2), (0, 1)), ((1, 1), (0, 0), (0, 2)))
+    >>> is_ranked(((0, 1), (1, 2)), (0, 1)), is_ranked(((0, 1), (1, 2)), (0, 3)), is_ranked(((0, 1), (0, 2)), (0, 2)), is_ranked((), ())
+    (True, False, False, True)
+    >>> ranked_run(((0, 1), (0, 2)), (0, 2))
+    raises CanNot()
+"""
+
 
 def steps_of(text):
     """Part a text of examples into pairs of what is run and what is told of it, None for what only sets names."""
@@ -50,16 +134,10 @@ def steps_of(text):
             yield line[4:], None if further.startswith(">>> ") else further
 
 
-def shown(error):
-    """Show an error as the document does: its class, and by name what it keeps."""
-    kept = ", ".join([f"{name}={value!r}" for name, value in vars(error).items()])
-    return f"raises {type(error).__name__}({kept})"
-
-
 class ExamplesTest(unittest.TestCase):
     def run_examples(self, text):
         names = {}
-        for module in (errors, machines, doings):
+        for module in MODULES:
             names.update({name: own for name, own in vars(module).items() if not name.startswith("_")})
         many = 0
         for code, told in steps_of(text):
@@ -80,6 +158,18 @@ class ExamplesTest(unittest.TestCase):
 
     def test_section_5(self):
         self.assertEqual(self.run_examples(SECTION_5), 8)
+
+    def test_section_6(self):
+        self.assertEqual(self.run_examples(SECTION_6), 6)
+
+    def test_section_7(self):
+        self.assertEqual(self.run_examples(SECTION_7), 9)
+
+    def test_section_8(self):
+        self.assertEqual(self.run_examples(SECTION_8), 7)
+
+    def test_section_9(self):
+        self.assertEqual(self.run_examples(SECTION_9), 6)
 
     def test_readme(self):
         readme = pathlib.Path(__file__).resolve().parent.parent / "README.md"

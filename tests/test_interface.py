@@ -14,6 +14,24 @@ INTERFACE = {
         "word_for(machine, one), halted(one), halting(machine), commutes(machine), crossed(machine), "
         "surroundings(machine, one, other), is_surroundings(machine, one, other, thing)"
     ),
+    "runs": (
+        "is_run(thing), roads(run), is_at_rest(run), can_take(run, side), puts_of(run), seen(run, number), "
+        "known(run, side), settled(run), exchanged(run)"
+    ),
+    "weavings": (
+        "is_weaving(run, thing), is_weaving_of(run, numbers, thing), reads(run, weaving), free_pairs(run), "
+        "weaving_count(run), weaving_at(run, number), place_of(run, weaving), otherwise(run, one, other), "
+        "order_of(run, side), states_come(machine, run), answers_come(machine, run), weaving_to(machine, run, state)"
+    ),
+    "keepers": (
+        "is_keeper(thing), is_pair(thing), letters_of(keeper), marks_of(keeper), stands_behind(pair, run), "
+        "stands_along(pair, run), answers(pair, run), marks_sent(pair, run), bare_roads(pair), "
+        "refutes(pair, machine, thing)"
+    ),
+    "ranks": (
+        "ranks(run), bits(run), ranks_now(run), ranks_told(side, told), laps(run), rank_weaving(run), "
+        "rank_order(run, side), moved(run), is_ranked(puts, thing), ranked_run(puts, told)"
+    ),
 }
 ERRORS = {"NoPlace": "place", "BadLine": "line", "CanNot": "", "TooMuch": "", "Unfit": ""}
 
