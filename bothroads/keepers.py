@@ -127,7 +127,7 @@ def check_pair_fits(pair, machine):
 
 
 def refutes(pair, machine, thing):
-    """Tell whether thing is a RUN of their letters that refutes pair for machine; Unfit, whatever it is, as above."""
+    """Tell whether thing is a RUN that refutes pair for machine; Unfit, whatever it is, if they do not go together."""
     check_pair_fits(pair, machine)
     if not is_run(thing) or not has_letters(pair, letters_put(thing)) or not is_at_rest(thing):
         return False

@@ -48,6 +48,17 @@ ABOVE_48 = [
     (tuple([((own + 1) % 12, (1, 0)[own] if own < 2 else own, own if own else 1) for own in range(12)]), (0,)),
 ]
 
+# By how many NOTES there are of each SIDE; all have less than 48 DOINGS but CUBE. The first one is a group's.
+JUST_400 = [
+    (((0, 1), (2, 3), (4, 5), (6, 0), (1, 4), (5, 7), (7, 6), (3, 2)), (0,)),
+    (((1, 0), (1, 2), (3, 3), (4, 1), (2, 4)), (3,)),
+]
+ABOVE_400 = [
+    (((1, 1), (2, 3), (4, 5), (4, 5), (3, 1), (3, 2)), (3, 5)),
+    (((1, 0), (1, 2), (3, 2), (4, 3), (5, 2), (4, 5)), (5,)),
+    CUBE,
+]
+
 # Numbers that are none, tuples that are none, and more that has to be told from the values of the document.
 ODD_THINGS = [None, True, False, "", "12", 0, 1, -1, [], [1], [(1,)], (None,), ("1",), (True,), (False,), ((),), ([],)]
 

@@ -6,9 +6,9 @@ import pathlib
 import unittest
 
 from calls import shown
-from bothroads import doings, errors, keepers, machines, ranks, runs, weavings
+from bothroads import bare, bits, doings, errors, keepers, law, machines, ranks, runs, weavings
 
-MODULES = (errors, machines, doings, runs, weavings, keepers, ranks)
+MODULES = (errors, machines, doings, runs, weavings, keepers, ranks, bits, bare, law)
 
 SECTION_4 = """
     >>> odd, begins, last = (((1,), (0,)), (1,)), (((1, 2), (1, 1), (2, 2)), (1,)), (((1, 0), (1, 0)), (1,))
@@ -124,6 +124,62 @@ SECTION_9 = """
     raises CanNot()
 """
 
+SECTION_10 = """
+    >>> lone, last = (((0,),), (0,)), (((1, 0), (1, 0)), (1,))
+    >>> bit_pair(lone)[0]
+    ((True, True, True, True), (((0, 0),), ((2, 1),), ((2, 1),), ((0, 0),)), (((1, 0),), ((1, 1),), ((2, 3),), ((3, 3),)))
+    >>> bit_pair(lone)[1][2], notes_of(lone, 1)
+    ((((0, 1),), ((1, 1),), ((3, 2),), ((3, 3),)), ((0, (0,), False, 0), (0, (0,), True, 0), (0, (0,), False, 1), (0, (0,), True, 1)))
+    >>> crossing = ((0, 1), (1, 2), (1, 0), (0, 0))
+    >>> note_behind(last, crossing, 0), note_behind(last, crossing, 1), note_behind(last, crossing[:1], 0), note_behind(last, (), 1)
+    ((0, (0, 1), True, 0), (1, (0, 0), False, 0), (0, (1, 1), False, 0), (0, (0, 1), False, 0))
+    >>> note_behind(last, crossing + ((0, 1),), 0), note_behind(last, crossing + ((0, 1), (1, 0)), 1)
+    ((0, (1, 1), False, 1), (1, (0, 1), True, 0))
+    >>> len(notes_of(last, 0)), notes_of(last, 0)[:3], bit_pair(last)[0][1][0]
+    (14, ((0, (0, 1), False, 0), (0, (1, 1), False, 0), (0, (0, 0), False, 0)), ((1, 0), (2, 0)))
+    >>> note_behind(lone, ((0, 2),), 0)
+    raises NoPlace(place=2)
+"""
+
+SECTION_11 = """
+    >>> beat, front, over, thrown = (((1,), (0,)), (1,)), (((1, 2), (1, 1), (2, 2)), (1,)), (((1, 0), (1, 0)), (1,)), (((1, 0), (0, 2), (2, 1)), (0,))
+    >>> crossing_of(front), crossing_of(over), crossing_of(thrown), is_crossing(over, ((2,), 2, 1, ())), is_crossing(over, ((), 1, 2, (1,)))
+    (((), 1, 2, ()), ((), 1, 2, ()), ((), 1, 2, (1,)), True, False)
+    >>> crossing_runs(front, ((), 1, 2, (1,)))
+    (((0, 1), (1, 2), (0, 0), (1, 0), (0, 1), (1, 0)), ((0, 1), (1, 0), (1, 2), (0, 0), (0, 1), (1, 0)), ((1, 2), (0, 0), (0, 1), (1, 0), (0, 1), (1, 0)))
+    >>> bare_pair(beat)[0], bare_pair(beat)[0] == bare_pair(beat)[1]
+    (((False, True), (((1, 0),), ((0, 0),)), (((1,),), ((0,),))), True)
+    >>> own = ((False, True), (((1, 0), (0, 0)),) * 2, (((1,), (0,)),) * 2)
+    >>> is_bare_right(bare_pair(beat), beat), is_bare_right((own, own), over), refutes((own, own), over, bare_against((own, own), over))
+    (True, False, True)
+    >>> stuck = ((False,), (((0, 0),),), (((0,),),))
+    >>> is_bare_right((stuck, stuck), beat), len(bare_against((stuck, stuck), beat)) > 1
+    (False, True)
+    >>> bare_pair(front)
+    raises CanNot()
+    >>> bare_against(bare_pair(beat), beat)
+    raises CanNot()
+    >>> crossing_runs(beat, ((), 1, 1, ()))
+    raises Unfit()
+"""
+
+SECTION_12 = """
+    >>> pulse, opening, put_over = (((1,), (0,)), (1,)), (((1, 2), (1, 1), (2, 2)), (1,)), (((1, 0), (1, 0)), (1,))
+    >>> spins, in_turn = (((1, 0), (0, 2), (2, 1)), (0,)), (((1, 0), (1, 2), (2, 2)), (2,))
+    >>> [kind(own) for own in (pulse, opening, put_over, spins, in_turn)], [is_lawful(own) for own in (pulse, opening, put_over, spins, in_turn)]
+    (['none', 'one', 'both', 'one', 'both'], [True, True, False, True, False])
+    >>> broken(put_over), broken(in_turn), broken(spins)
+    ((((0, 0), 1), ((1, 1), 2)), (((0, 2, 2), 1),), ())
+    >>> breach(put_over), breach(in_turn)
+    (((), (1,), (2,), ()), ((), (2,), (1,), ()))
+    >>> [is_breach(put_over, own) for own in (((), (2,), (1,), ()), ((2,), (1,), (2, 2), ()), ((), (1,), (2,), (1,)), ((), (1,), (1,), ()), [(), (1,), (2,), ()])]
+    [True, True, False, False, False]
+    >>> is_breach(in_turn, ((1,), (2,), (1,), ())), is_breach(in_turn, ((), (2, 1), (2,), ())), is_breach(in_turn, ((), (2,), (2, 1), ()))
+    (False, False, True)
+    >>> breach(opening)
+    raises CanNot()
+"""
+
 
 def steps_of(text):
     """Part a text of examples into pairs of what is run and what is told of it, None for what only sets names."""
@@ -170,6 +226,15 @@ class ExamplesTest(unittest.TestCase):
 
     def test_section_9(self):
         self.assertEqual(self.run_examples(SECTION_9), 6)
+
+    def test_section_10(self):
+        self.assertEqual(self.run_examples(SECTION_10), 6)
+
+    def test_section_11(self):
+        self.assertEqual(self.run_examples(SECTION_11), 8)
+
+    def test_section_12(self):
+        self.assertEqual(self.run_examples(SECTION_12), 6)
 
     def test_readme(self):
         readme = pathlib.Path(__file__).resolve().parent.parent / "README.md"

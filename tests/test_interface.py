@@ -32,6 +32,12 @@ INTERFACE = {
         "ranks(run), bits(run), ranks_now(run), ranks_told(side, told), laps(run), rank_weaving(run), "
         "rank_order(run, side), moved(run), is_ranked(puts, thing), ranked_run(puts, told)"
     ),
+    "bits": "note_behind(machine, run, side), notes_of(machine, side), bit_pair(machine)",
+    "bare": (
+        "crossing_of(machine), is_crossing(machine, thing), crossing_runs(machine, crossing), bare_pair(machine), "
+        "is_bare_right(pair, machine), bare_against(pair, machine)"
+    ),
+    "law": "is_lawful(machine), broken(machine), breach(machine), is_breach(machine, thing), kind(machine)",
 }
 ERRORS = {"NoPlace": "place", "BadLine": "line", "CanNot": "", "TooMuch": "", "Unfit": ""}
 

@@ -5,7 +5,7 @@ import unittest
 
 import samples
 from calls import check_calls, check_no_things
-from walks import EMPTY, MEET, ONE_SIDED, OPEN, SOME, TO_ONE, History, drawn_runs, every_run
+from walks import EMPTY, MEET, ONE_SIDED, OPEN, SOME, TO_ONE, History, PlainRanks, drawn_runs, every_run
 from bothroads.errors import CanNot
 from bothroads.ranks import (
     bits,
@@ -25,30 +25,6 @@ from bothroads.weavings import is_weaving, is_weaving_of
 SHORT = list(every_run(7, 1))
 DRAWN = drawn_runs(80, 41, events=60, letters=3)
 RUNS = SHORT + DRAWN + SOME + [OPEN]
-
-
-class PlainRanks:
-    """Ranks as the document tells them, by a plain walk; each take beside what its SIDE has and knows then."""
-
-    def __init__(self, run):
-        self.now, self.told, self.takes = [0, 1], [], []
-        roads, taken, known = ([], []), ([], []), ([], [])
-        for side, letter in run:
-            if letter:
-                if any([rank > self.now[side] for rank in taken[side]]):
-                    self.now[side] += 2
-                number = len(self.told)
-                self.told.append(self.now[side])
-                roads[1 - side].append(number)
-            else:
-                number = roads[side].pop(0)
-                taken[side].append(self.told[number])
-                self.takes.append((side, number, self.now[side], list(known[side])))
-            known[side].append(number)
-        self.known = known
-
-    def by_ranks(self, numbers):
-        return tuple(sorted(numbers, key=lambda number: (self.told[number], number)))
 
 
 def runs_with(puts):

@@ -131,6 +131,30 @@ class History:
         return sorted({samples.plain_takes(machine, self.letters(order)) for order in self.weavings()})
 
 
+class PlainRanks:
+    """Ranks as the document tells them, by a plain walk; each take beside what its SIDE has and knows then."""
+
+    def __init__(self, run):
+        self.now, self.told, self.takes = [0, 1], [], []
+        roads, taken, known = ([], []), ([], []), ([], [])
+        for side, letter in run:
+            if letter:
+                if any([rank > self.now[side] for rank in taken[side]]):
+                    self.now[side] += 2
+                number = len(self.told)
+                self.told.append(self.now[side])
+                roads[1 - side].append(number)
+            else:
+                number = roads[side].pop(0)
+                taken[side].append(self.told[number])
+                self.takes.append((side, number, self.now[side], list(known[side])))
+            known[side].append(number)
+        self.known = known
+
+    def by_ranks(self, numbers):
+        return tuple(sorted(numbers, key=lambda number: (self.told[number], number)))
+
+
 def plain_walk(pair, run):
     """Walk a PAIR along a RUN: give the STANDS along it and the marks sent."""
     stands, roads, marks = [0, 0], ([], []), []
