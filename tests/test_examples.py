@@ -6,9 +6,9 @@ import pathlib
 import unittest
 
 from calls import shown
-from bothroads import bare, bits, doings, errors, keepers, law, machines, ranks, runs, weavings
+from bothroads import against, bare, bits, doings, errors, keepers, law, machines, oneroad, ranks, runs, stages, trees, weavings
 
-MODULES = (errors, machines, doings, runs, weavings, keepers, ranks, bits, bare, law)
+MODULES = (errors, machines, doings, runs, weavings, keepers, ranks, bits, bare, law, stages, trees, oneroad, against)
 
 SECTION_4 = """
     >>> odd, begins, last = (((1,), (0,)), (1,)), (((1, 2), (1, 1), (2, 2)), (1,)), (((1, 0), (1, 0)), (1,))
@@ -180,6 +180,94 @@ SECTION_12 = """
     raises CanNot()
 """
 
+SECTION_13 = """
+    >>> begins, three = (((1, 2), (1, 1), (2, 2)), (1,)), (((1, 0), (0, 2), (2, 1)), (0,))
+    >>> switch = (((0, 1), (2, 1), (1, 2)), (2,))
+    >>> full, near, far = rooms(switch)
+    >>> full == room_of(switch, (0, 2, 1)), near, far, len(full)
+    (True, ((1, 1, 2), (2, 2, 1)), ((1, 2, 1), (2, 1, 2)), 6)
+    >>> rooms(begins), [len(own) for own in rooms(three)]
+    ((((0, 1, 2), (1, 1, 2), (2, 1, 2)), ((1, 1, 2),), ((2, 1, 2),)), [6])
+    >>> staying(switch, full), staying(switch, near), staying(begins, rooms(begins)[0]), within(switch, full) == (near, far), within(switch, far)
+    ((1,), (1, 2), (), True, ())
+    >>> turned(switch, full, (1,)), turned(switch, near, (1, 2, 2)), turned(switch, near, (2,)), turned(three, rooms(three)[0], (1, 2))
+    ((1, 0, 5, 4, 3, 2), (1, 0), (0, 1), (4, 5, 1, 0, 3, 2))
+    >>> turns_joined((1, 2, 0), (0, 2, 1)), turn_back((1, 2, 0)), led(near, (2, 2, 1), (1, 0)), cut_turn(full, far, (1, 0, 5, 4, 3, 2))
+    ((2, 1, 0), (2, 0, 1), (1, 1, 2), (1, 0))
+    >>> turned(switch, full, (1, 2))
+    raises Unfit()
+    >>> rooms((((1, 0), (1, 0)), (1,)))
+    raises Unfit()
+"""
+
+SECTION_14 = """
+    >>> light, begun = (((1, 2), (0, 2), (2, 2)), (1,)), (((1, 2), (1, 3), (2, 2), (3, 1)), (1,))
+    >>> top = ((0, 1, 2), (1, 0, 2), (2, 2, 2))
+    >>> tree_of(light, top, ()), tree_of(light, top, (1, 1, 1)), tree_of(light, top, (1, 1, 1, 2, 1))
+    (((0, 1, 2), 0, ()), ((1, 0, 2), 0, ()), ((1, 0, 2), 2, ((((2, 2, 2),), ((0,), 0, ())),)))
+    >>> crown, branch, twig = doings(begun), ((1, 1, 2, 3), (3, 3, 2, 1)), ((2, 1, 2, 3), (2, 3, 2, 1))
+    >>> oak = tree_of(begun, crown, (1, 2, 2, 2))
+    >>> oak == ((0, 1, 2, 3, 4), 1, ((branch, ((1, 0), 0, ())), (twig, ((1, 0), 0, ())))), oak == tree_of(begun, crown, (1, 1, 2))
+    (True, True)
+    >>> appended(begun, crown, oak, 2) == tree_of(begun, crown, (1,)), put_ahead(begun, crown, oak, 2)[:2], cut(begun, crown, oak, branch)
+    (True, ((0, 1, 2, 3, 4), 2), ((1, 0), 0, ()))
+    >>> whole(begun, (0, 1, 2, 3), oak), whole(begun, (1, 1, 2, 3), ((1, 0), 0, ()))
+    ((3, 3, 2, 1), (3, 3, 2, 1))
+    >>> left_behind(begun, (0, 1, 2, 3), oak, (3, 3, 2, 1), (1, 0)), left_behind(begun, (0, 1, 2, 3), oak, (1, 1, 2, 3), (0, 1))
+    (((0, 1), 0, ()), ((1, 0), 0, ()))
+    >>> left_behind(begun, (0, 1, 2, 3), oak, (0, 1, 2, 3), (0, 1, 2, 3, 4)) == oak
+    True
+    >>> left_behind(begun, (0, 1, 2, 3), oak, (2, 1, 2, 3), (0, 1))
+    raises CanNot()
+    >>> cut(begun, branch, ((1, 0), 0, ()), twig)
+    raises Unfit()
+    >>> tree_of((((1, 0), (1, 0)), (1,)), ((0, 1),), ())
+    raises Unfit()
+    >>> appended(light, top, ((0, 1, 2), 0, ()), 3)
+    raises NoPlace(place=3)
+"""
+
+SECTION_15 = """
+    >>> begins, switch = (((1, 2), (1, 1), (2, 2)), (1,)), (((0, 1), (2, 1), (1, 2)), (2,))
+    >>> meet = ((0, 1), (0, 2), (1, 0), (1, 2), (1, 0), (0, 0))
+    >>> ends_behind(switch, meet[:4], 0)[1], ends_behind(switch, meet, 0)
+    (((1, 2, 1), (0, 1)), (((1, 2, 1), ((0, 1), 0, ())), ((1, 2, 1), (0, 1))))
+    >>> hearer, teller = ends_behind(switch, meet[:3], 0)
+    >>> teller, hearer[0], hearer[1][:2], hearer_doing(switch, hearer), teller_put(switch, teller, 2)
+    (((0, 2, 1), (1, 0, 5, 4, 3, 2)), (0, 1, 2), ((1, 0, 5, 4, 3, 2), 2), (1, 2, 1), ((1, 2, 1), (0, 1)))
+    >>> hearer_take(switch, hearer, teller, 1)[0], [len(own) for own in ends_come(begins)]
+    ((0, 2, 1), [5, 3])
+    >>> one_pair(begins, 1)[0]
+    ((False, True, False), (((1, 0), (2, 0)), ((1, 1), (1, 1)), ((2, 2), (2, 2))), (((1,), (2,)), ((1,), (1,)), ((2,), (2,))))
+    >>> one_pair(begins, 1)[1][2]
+    (((3, 0, 0), (4, 0, 0)), ((3, 3, 1), (4, 3, 1)), ((3, 2, 4), (4, 2, 4)), ((3, 3, 3), (3, 3, 3)), ((4, 4, 4), (4, 4, 4)))
+    >>> hearer_take(begins, first_ends(begins)[0], ((1, 1, 2), (0,)), 1)
+    raises CanNot()
+    >>> ends_come((((1, 0), (1, 0)), (1,)))
+    raises Unfit()
+"""
+
+SECTION_16 = """
+    >>> last = (((1, 0), (1, 0)), (1,))
+    >>> plain = ((False, True), (((1, 0), (0, 0)),) * 2, (((1,), (0,)),) * 2)
+    >>> tale = ((), (1,), (2,), ())
+    >>> trials(tale, 0, 1, 2)
+    (((0, 1), (0, 1), (1, 0), (1, 0), (1, 2), (0, 0)), ((0, 1), (0, 1), (1, 0), (1, 2), (0, 0), (1, 0)), ((0, 1), (1, 0), (1, 2), (0, 0), (0, 1), (1, 0)))
+    >>> trials(((2,), (1, 1), (1,), (2, 1)), 1, 1, 2)[2]
+    ((1, 2), (0, 0), (1, 1), (0, 0), (1, 1), (0, 0), (0, 1), (1, 0), (1, 1), (0, 0), (1, 1), (0, 0), (1, 2), (0, 0), (1, 1), (0, 0))
+    >>> round_of_trials((plain, plain), tale, 0)
+    (1, 2)
+    >>> [refutes((plain, plain), last, run) for run in trials(tale, 0, 1, 2)], refutes((plain, plain), last, road_against((plain, plain), last, 1))
+    ([False, True, False], True)
+    >>> [is_order_against((plain, plain), last, 1, run) for run in trials(tale, 0, 1, 2)], is_order_against((plain, plain), last, 0, ())
+    ([False, True, False], False)
+    >>> odd = (((1, 0), (0, 1)), (1,))
+    >>> order_against((plain, plain), odd, 0)
+    raises CanNot()
+    >>> road_against((plain, plain), (((0,),), ()), 0)
+    raises Unfit()
+"""
+
 
 def steps_of(text):
     """Part a text of examples into pairs of what is run and what is told of it, None for what only sets names."""
@@ -235,6 +323,18 @@ class ExamplesTest(unittest.TestCase):
 
     def test_section_12(self):
         self.assertEqual(self.run_examples(SECTION_12), 6)
+
+    def test_section_13(self):
+        self.assertEqual(self.run_examples(SECTION_13), 7)
+
+    def test_section_14(self):
+        self.assertEqual(self.run_examples(SECTION_14), 10)
+
+    def test_section_15(self):
+        self.assertEqual(self.run_examples(SECTION_15), 7)
+
+    def test_section_16(self):
+        self.assertEqual(self.run_examples(SECTION_16), 7)
 
     def test_readme(self):
         readme = pathlib.Path(__file__).resolve().parent.parent / "README.md"

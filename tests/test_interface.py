@@ -38,6 +38,24 @@ INTERFACE = {
         "is_bare_right(pair, machine), bare_against(pair, machine)"
     ),
     "law": "is_lawful(machine), broken(machine), breach(machine), is_breach(machine, thing), kind(machine)",
+    "stages": (
+        "room_of(machine, one), rooms(machine), within(machine, room), staying(machine, room), "
+        "turned(machine, room, word), turns_joined(one, other), turn_back(turn), led(room, one, turn), "
+        "cut_turn(room, lower, turn)"
+    ),
+    "trees": (
+        "tree_of(machine, room, word), appended(machine, room, tree, letter), put_ahead(machine, room, tree, letter), "
+        "cut(machine, room, tree, lower), whole(machine, one, tree), left_behind(machine, one, tree, goal, turn)"
+    ),
+    "oneroad": (
+        "first_ends(machine), teller_put(machine, teller, letter), teller_take(machine, teller, letter), "
+        "hearer_put(machine, hearer, letter), hearer_take(machine, hearer, told, letter), "
+        "hearer_doing(machine, hearer), ends_behind(machine, run, side), ends_come(machine), one_pair(machine, side)"
+    ),
+    "against": (
+        "trials(tale, side, low, high), round_of_trials(pair, tale, side), road_against(pair, machine, side), "
+        "order_against(pair, machine, side), is_order_against(pair, machine, side, thing)"
+    ),
 }
 ERRORS = {"NoPlace": "place", "BadLine": "line", "CanNot": "", "TooMuch": "", "Unfit": ""}
 
