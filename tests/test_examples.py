@@ -6,9 +6,47 @@ import pathlib
 import unittest
 
 from calls import shown
-from bothroads import against, bare, bits, doings, errors, keepers, law, machines, oneroad, ranks, runs, stages, trees, weavings
+from bothroads import (
+    against,
+    bare,
+    bits,
+    desk,
+    doings,
+    errors,
+    groups,
+    judge,
+    keepers,
+    law,
+    machines,
+    oneroad,
+    ranks,
+    runs,
+    stages,
+    texts,
+    trees,
+    weavings,
+)
 
-MODULES = (errors, machines, doings, runs, weavings, keepers, ranks, bits, bare, law, stages, trees, oneroad, against)
+MODULES = (
+    errors,
+    machines,
+    doings,
+    runs,
+    weavings,
+    keepers,
+    ranks,
+    bits,
+    bare,
+    law,
+    stages,
+    trees,
+    oneroad,
+    against,
+    groups,
+    texts,
+    judge,
+    desk,
+)
 
 SECTION_4 = """
     >>> odd, begins, last = (((1,), (0,)), (1,)), (((1, 2), (1, 1), (2, 2)), (1,)), (((1, 0), (1, 0)), (1,))
@@ -268,6 +306,86 @@ SECTION_16 = """
     raises Unfit()
 """
 
+SECTION_17 = """
+    >>> wheel, thrown = (((1, 1), (0, 2), (2, 0)), (0,)), (((1, 0), (0, 2), (2, 1)), (0,))
+    >>> conjugates(wheel, 2), conjugates(thrown, 1), [fewest_marks(wheel, own) for own in (1, 2)], fewest_marks((((1,), (0,)), (1,)), 1)
+    (((1, 2, 0), (2, 0, 1)), ((0, 2, 1), (1, 0, 2), (2, 1, 0)), [3, 2], 1)
+    >>> states_led(wheel, 2), is_marks_table(wheel, 2, ((0, 1, 2),) * 3), is_marks_table(wheel, 2, ((1,), (2,), (0,)))
+    (((1, 2), (0, 2), (0, 1)), True, False)
+    >>> telling_words(wheel, 2), telling_words(thrown, 1), is_telling(wheel, 2, ((2,), (1, 2))), is_telling(wheel, 2, ((), (2,)))
+    (((), (1,)), ((1, 2), (), (2,)), True, False)
+    >>> made = group_pair(wheel, 0)
+    >>> bare_roads(made), [len(marks_with(made[1], own)) for own in (1, 2)], marks_of(made[0])
+    ((0,), [3, 2], 3)
+    >>> way = ((0, 2), (0, 1), (1, 0), (1, 1), (1, 2), (1, 0), (0, 0), (0, 0))
+    >>> answers(made, way), refutes(made, wheel, way)
+    ((True, True), False)
+    >>> plain = ((True, False, False), tuple([tuple([(own, 0) for own in row]) for row in thrown[0]]), tuple([tuple([(own,) for own in row]) for row in thrown[0]]))
+    >>> refutes((plain, plain), thrown, few_against((plain, plain), thrown, 1, 2)), marks_with(plain, 2)
+    (True, (0,))
+    >>> few_against(made, wheel, 0, 1)
+    raises CanNot()
+    >>> few_against(made, wheel, 1, 1)
+    raises Unfit()
+    >>> fewest_marks((((1, 2), (1, 1), (2, 2)), (1,)), 3)
+    raises Unfit()
+"""
+
+SECTION_18 = """
+    >>> evens, started, ended = (((1,), (0,)), (0,)), (((1, 2), (1, 1), (2, 2)), (1,)), (((1, 0), (1, 0)), (1,))
+    >>> fours = (((1,), (2,), (3,), (0,)), (0, 2))
+    >>> verdicts((("alike", evens, fours), ("alike", started, ended), ("free", evens), ("free", ended), ("lawful", started), ("lawful", ended)), ((), (1, 2), (), (1, 2), (), ((), (1,), (2,), ())))
+    ['for', 'against', 'for', 'against', 'for', 'against']
+    >>> meeting = ((0, 1), (1, 2), (0, 0), (1, 0))
+    >>> verdicts((("led", started, meeting, 1), ("led", started, meeting, 0), ("led", started, meeting, 2)), ((0, 1), (), (0, 1)))
+    ['for', 'against', 'none']
+    >>> tally = ((True, False), (((1, 0),), ((0, 0),)), (((1,),), ((0,),)))
+    >>> verdicts((("held", (tally, tally), evens, ((0, 1), (1, 0))), ("held", (tally, tally), (evens[0], (1,)), ((0, 1), (1, 0)))), ((0,), ()))
+    ['for', 'against']
+    >>> swaps = (((1, 0), (0, 2), (2, 1)), (0,))
+    >>> verdicts((("marks", swaps, 1, 3), ("marks", swaps, 1, 4), ("marks", swaps, 1, 2)), (((), (2,), (1, 2)), ((0, 1, 2),) * 3, ((), (2,), (1, 2))))
+    ['for', 'against', 'none']
+    >>> comes_of(("lawful", fours), (("free", evens), ("alike", fours, evens))), comes_of(("marks", swaps, 1, 3), (("marks", swaps, 1, 2),)), first_false((("free", evens), ("free", ended)))
+    (True, False, 1)
+    >>> is_so(("marks", started, 1, 1))
+    raises Unfit()
+"""
+
+SECTION_19 = r"""
+    >>> even = (((1,), (0,)), (0,))
+    >>> machine_text(even), machine_read("machine 2\nstate 0 0\nends")
+    ('machine 1\nstate 1\nstate 0\nends 0', (((0, 0),), ()))
+    >>> run_text(((0, 1), (1, 2), (1, 0), (0, 0))), run_read("run"), run_read("run\nput 1 12")
+    ('run\nput 0 1\nput 1 2\ntake 1\ntake 0', (), ((1, 12),))
+    >>> flip = ((True, False), (((1, 0),), ((0, 0),)), (((1,),), ((0,),)))
+    >>> keeper_text(flip)
+    'keeper 1 1\nanswers yes no\nputs 1 0\ntakes 1\nputs 0 0\ntakes 0'
+    >>> keeper_read("keeper 2 3\nanswers no\nputs 0 7 0 0\ntakes 0 0 0 0 0 0")
+    ((False,), (((0, 7), (0, 0)),), (((0, 0, 0), (0, 0, 0)),))
+    >>> pair_text((flip, flip)) == keeper_text(flip) + "\n" + keeper_text(flip), pair_read(pair_text((flip, flip))) == (flip, flip)
+    (True, True)
+    >>> run_read("run\nput 0 1\ntake 0")
+    raises Unfit()
+    >>> run_read("run\nput 0 0")
+    raises BadLine(line=2)
+    >>> keeper_read("keeper 1 1\nanswers yes\nputs 0 0")
+    raises BadLine(line=4)
+    >>> pair_read("keeper 1 1\nanswers yes\nputs 0 1\ntakes 0\nkeeper 1 1\nanswers yes\nputs 0 0\ntakes 0")
+    raises Unfit()
+"""
+
+SECTION_20 = r"""
+    >>> beats = "pair\n" + 2 * " keeper 1 1\n answers yes no\n puts 1 0\n takes 1\n puts 0 0\n takes 0\n"
+    >>> desk("answers\nheld\n" + beats + "put 0 1\nput 1 1\nput 0 1\ntake 1\nstands\nroads\norder 1\nheld\nsettle\nanswers\nheld\nundo\nroads\ntake 0\ntake 0")
+    ['yes, yes', 'yes', 'done', 'done', 'done', 'done', 'done', '0, 0', '1, 1', '1 0', 'refused CanNot', 'done', 'no, no', 'no', 'settle', '1, 1', 'done', 'refused CanNot']
+    >>> desk("put 0 2\nmachine\n machine 1\n state 1\n state 0\n ends 1\nrun\n run\n put 1 1\nled\nroads\nundo\nroads\nmachine\n machine 2\n state 0 0\n ends\nled\nput 1 1\npast\nrun\n run\n take 0")
+    ['refused Unfit', 'done', 'done', '1', '1, -', 'run', '-, -', 'done', 'refused Unfit', 'done', 'run\nput 1 1', 'refused Unfit']
+    >>> is_request("put 0 12"), is_request("put 2 1"), is_request("run"), is_request("run\n x"), is_request("take 1 0")
+    (True, False, False, True, False)
+    >>> desk("roads\n")
+    raises BadLine(line=2)
+"""
+
 
 def steps_of(text):
     """Part a text of examples into pairs of what is run and what is told of it, None for what only sets names."""
@@ -335,6 +453,18 @@ class ExamplesTest(unittest.TestCase):
 
     def test_section_16(self):
         self.assertEqual(self.run_examples(SECTION_16), 7)
+
+    def test_section_17(self):
+        self.assertEqual(self.run_examples(SECTION_17), 9)
+
+    def test_section_18(self):
+        self.assertEqual(self.run_examples(SECTION_18), 6)
+
+    def test_section_19(self):
+        self.assertEqual(self.run_examples(SECTION_19), 9)
+
+    def test_section_20(self):
+        self.assertEqual(self.run_examples(SECTION_20), 4)
 
     def test_readme(self):
         readme = pathlib.Path(__file__).resolve().parent.parent / "README.md"

@@ -1,4 +1,4 @@
-"""[21]: every name of the interface that has landed stands in its file, with its parameters as they are named."""
+"""[21]: every name of the interface stands in its file, with its parameters as they are named."""
 
 import importlib
 import inspect
@@ -56,6 +56,20 @@ INTERFACE = {
         "trials(tale, side, low, high), round_of_trials(pair, tale, side), road_against(pair, machine, side), "
         "order_against(pair, machine, side), is_order_against(pair, machine, side, thing)"
     ),
+    "groups": (
+        "conjugates(machine, letter), states_led(machine, letter), fewest_marks(machine, letter), "
+        "is_marks_table(machine, letter, thing), telling_words(machine, letter), is_telling(machine, letter, thing), "
+        "marks_with(keeper, letter), group_pair(machine, side), few_against(pair, machine, side, letter)"
+    ),
+    "texts": (
+        "machine_text(machine), run_text(run), keeper_text(keeper), pair_text(pair), machine_read(text), "
+        "run_read(text), keeper_read(text), pair_read(text)"
+    ),
+    "judge": (
+        "is_claim(thing), is_so(claim), paper(claim), is_paper_for(claim, thing), is_paper_against(claim, thing), "
+        "verdicts(claims, things), comes_of(claim, claims), first_false(claims)"
+    ),
+    "desk": "desk(text), is_request(thing)",
 }
 ERRORS = {"NoPlace": "place", "BadLine": "line", "CanNot": "", "TooMuch": "", "Unfit": ""}
 
