@@ -14,7 +14,14 @@ DEEP = [
     (((4, 2), (3, 3), (4, 1), (4, 4), (3, 3)), (2, 4)),
     (((1, 0), (4, 1), (3, 4), (3, 3), (3, 2)), (2,)),
 ]
-LAWFUL = samples.FREE + samples.LAWFUL + samples.GROUPS[:2] + [TWO_BEGINS, CUT_OFF, COUNT_FIVE, TWISTED] + DEEP + samples.UNTIDY[1:]
+LAWFUL = (
+    samples.FREE
+    + samples.LAWFUL
+    + samples.GROUPS[:2]
+    + [TWO_BEGINS, CUT_OFF, COUNT_FIVE, TWISTED]
+    + DEEP
+    + samples.UNTIDY[1:]
+)
 
 
 class Plain:
@@ -55,14 +62,14 @@ class Plain:
             at += 1
         if at == len(word):
             return self.turn(room, word), 0, ()
-        trees = [(lower, self.tree(lower, word[at + 1:])) for lower in self.within(room)]
+        trees = [(lower, self.tree(lower, word[at + 1 :])) for lower in self.within(room)]
         return self.turn(room, word[:at]), word[at], tuple(trees)
 
     def since(self, one, word):
         """Give how many letters of word led one on since the last ROOM was come to."""
         goal = self.led(one, word)
         at = len(word)
-        while at > 0 and self.room_of[self.led(one, word[:at - 1])] == self.room_of[goal]:
+        while at > 0 and self.room_of[self.led(one, word[: at - 1])] == self.room_of[goal]:
             at -= 1
         return len(word) - at
 
@@ -76,7 +83,7 @@ class Plain:
         if not taken:
             return (self.one, self.tree(self.room_of[self.one], told.letters(own_puts))), teller
         # What the teller knew ahead of the last PUT that the hearer took.
-        knew = teller_knows[:teller_knows.index(taken[-1])]
+        knew = teller_knows[: teller_knows.index(taken[-1])]
         goal, turn = self.teller(told, knew, side)
         letter = told.puts[taken[-1]][1]
         left = [number for number in own_puts if number not in knew]
@@ -91,7 +98,7 @@ class Plain:
     def late(self, told, knew, side):
         """Give those of knew that the teller took from side since it came to the ROOM that it has with them."""
         many = self.since(self.one, told.letters(knew))
-        return [number for number in knew[len(knew) - many:] if told.puts[number][0] == side]
+        return [number for number in knew[len(knew) - many :] if told.puts[number][0] == side]
 
     def teller(self, told, knew, side):
         goal = self.led(self.one, told.letters(knew))

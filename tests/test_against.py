@@ -1,4 +1,4 @@
-"""[16]: trials of a tale, what comes round, RUNS that refute PAIRS with a bare road, and RUNS against one SIDE's order."""
+"""[16]: trials of a tale, what comes round, RUNS against PAIRS with a bare road and against one SIDE's order."""
 
 import unittest
 
@@ -39,10 +39,18 @@ TALES = [
     ((), (1, 2, 1), (), ()),
     ((2, 2), (2, 1), (1, 1), (1,)),
 ]
-TRIED = [(tale, side, low, high) for tale in TALES for side in (0, 1) for low in (1, 2, 3) for high in range(low + 1, 6)]
-LAWLESS = samples.LAWLESS[:2] + [samples.TWICE] + [
-    own for own in samples.drawn_machines(120, 161, states=4, letters=2) if len(least(own)[0]) < 4 and not is_lawful(own)
+TRIED = [
+    (tale, side, low, high) for tale in TALES for side in (0, 1) for low in (1, 2, 3) for high in range(low + 1, 6)
 ]
+LAWLESS = (
+    samples.LAWLESS[:2]
+    + [samples.TWICE]
+    + [
+        own
+        for own in samples.drawn_machines(120, 161, states=4, letters=2)
+        if len(least(own)[0]) < 4 and not is_lawful(own)
+    ]
+)
 THREE = samples.LOCK
 PAIRS = drawn_pairs(60, 162, letters=2, stands=9) + [BOTH_BARE[1]]
 ONE_BARE = [own for own in PAIRS if bare_roads(own)]
@@ -69,7 +77,9 @@ class TrialsTest(unittest.TestCase):
             between = put[0] * high + take * low + goes(1 - side, b) + take * (high - low)
             self.assertEqual(list(second), goes(side, x) + between + goes(side, y))
             one_by_one = [(side, x), (side, w * low), (1 - side, b), (side, w * (high - low)), (side, y)]
-            self.assertEqual(list(third), [event for at, word in one_by_one for own in word for event in goes(at, (own,))])
+            self.assertEqual(
+                list(third), [event for at, word in one_by_one for own in word for event in goes(at, (own,))]
+            )
 
     def test_what_each_side_does(self):
         """One SIDE puts and takes alike in the first two, the other one in the last two."""
@@ -111,7 +121,11 @@ class RoundTest(unittest.TestCase):
 
     def test_a_great_keeper(self):
         many = 400
-        clock = ((True,) * many, tuple([(((own + 1) % many, 0),) for own in range(many)]), tuple([(((own + 1) % many,),) for own in range(many)]))
+        clock = (
+            (True,) * many,
+            tuple([(((own + 1) % many, 0),) for own in range(many)]),
+            tuple([(((own + 1) % many,),) for own in range(many)]),
+        )
         line = ((True,) * many, clock[1], tuple([((min(own + 1, many - 1),),) for own in range(many)]))
         tale = ((1,), (1,), (1,), ())
         self.assertEqual(round_of_trials((clock, clock), tale, 0), (1, 401))

@@ -155,7 +155,7 @@ class Drawn:
             "side": draw.randrange(2),
             "goal": goal,
             "state": draw.randint(0, 13),
-            "number": draw.choice([-1, 0, 1, 7, 10 ** 20]),
+            "number": draw.choice([-1, 0, 1, 7, 10**20]),
             "numbers": tuple(sorted(draw.sample(range(len(puts_of(run))), min(3, len(puts_of(run)))))),
             "weaving": draw.choice([order_of(run, 0), tuple(range(len(puts_of(run))))]),
             "puts": puts_of(run),
@@ -167,13 +167,19 @@ class Drawn:
             "turn": (0, 2, 1),
         }
         self.trees(machine, one, goal, word)
-        claim = draw.choice([("free", machine), ("lawful", machine), ("led", machine, run, 1), ("marks", machine, 1, 2)])
+        claim = draw.choice(
+            [("free", machine), ("lawful", machine), ("led", machine, run, 1), ("marks", machine, 1, 2)]
+        )
         claim = draw.choice([claim, ("alike", machine, machine), ("held", tuple(keepers), machine, settled(run))])
         self.told.update({"claim": claim, "claims": (claim, claim), "things": (word, None)})
         self.told["text"] = draw.choice(["", "run", "roads\nundo", "machine 1\nstate 0\nends", "x\n", "keeper 1 1"])
 
     def tale(self, machine, word):
-        return breach(machine) if doings_of(machine) != ((0,),) and not is_plainly_lawful(machine) else (word, word[:2], (1,), word)
+        return (
+            breach(machine)
+            if doings_of(machine) != ((0,),) and not is_plainly_lawful(machine)
+            else (word, word[:2], (1,), word)
+        )
 
     def trees(self, machine, one, goal, word):
         """Set what hangs on ROOMS: what stands for them where there is none raises an error ahead of all."""

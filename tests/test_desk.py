@@ -137,7 +137,11 @@ class Plain:
         return yes[first == second and first in history.answers(machine)]
 
 
-PAIRS = drawn_pairs(6, 201, letters=1) + drawn_pairs(6, 202, letters=2) + [(LEAD, HEAR), (LATEST, LATEST), bit_pair(samples.LAST)]
+PAIRS = (
+    drawn_pairs(6, 201, letters=1)
+    + drawn_pairs(6, 202, letters=2)
+    + [(LEAD, HEAR), (LATEST, LATEST), bit_pair(samples.LAST)]
+)
 MACHINES = [samples.ODD, samples.LAST, samples.BEGINS, samples.SPINS, samples.LONE, samples.TWICE]
 
 
@@ -176,7 +180,9 @@ class PlayTest(unittest.TestCase):
             for request, reply in zip(told, replies):
                 word = request[0] if isinstance(request, tuple) else request.split(" ")[0]
                 found.setdefault(word, set()).add(reply if reply.startswith("refused") else "done")
-        self.assertEqual({word for word, own in found.items() if "done" in own}, {own.split(" ")[0] for own in PLAIN + TEXTS})
+        self.assertEqual(
+            {word for word, own in found.items() if "done" in own}, {own.split(" ")[0] for own in PLAIN + TEXTS}
+        )
         refused = {"put", "take", "undo", "led", "held", "run"}
         self.assertEqual({word for word, own in found.items() if own - {"done"}}, refused)
         self.assertEqual(found["held"], {"done", "refused Unfit", "refused CanNot"})
@@ -184,12 +190,20 @@ class PlayTest(unittest.TestCase):
     def test_at_first(self):
         self.assertEqual(desk(""), [])
         told = desk("answers\nstands\nroads\norder 0\norder 1\nled\nheld\npast\nundo\ntake 0\nput 1 2\nsettle")
-        self.assertEqual(told, ["yes, yes", "0, 0", "-, -", "-", "-", "0", "yes", "run"] + ["refused CanNot"] * 2 + ["refused Unfit", "done"])
+        self.assertEqual(
+            told,
+            ["yes, yes", "0, 0", "-, -", "-", "-", "0", "yes", "run"]
+            + ["refused CanNot"] * 2
+            + ["refused Unfit", "done"],
+        )
 
     def test_a_pair_begins_anew_a_machine_does_not(self):
         pair = with_text("pair", pair_text((LATEST, LATEST)))
         machine = with_text("machine", machine_text(samples.LAST))
-        self.assertEqual(desk("put 0 1\n" + pair + "\npast\nput 0 2\n" + machine + "\npast\nled")[2:], ["run", "done", "done", "run\nput 0 2", "0"])
+        self.assertEqual(
+            desk("put 0 1\n" + pair + "\npast\nput 0 2\n" + machine + "\npast\nled")[2:],
+            ["run", "done", "done", "run\nput 0 2", "0"],
+        )
 
     def test_undo_of_each_kind_of_deed(self):
         pair = with_text("pair", pair_text((COUNT, COUNT)))
@@ -202,19 +216,37 @@ class PlayTest(unittest.TestCase):
             states.append(desk("\n".join(deeds[:many] + asked))[many:])
         told = desk("\n".join(deeds + asked + [own for _ in deeds for own in ["undo"] + asked] + ["undo"]))
         at = len(deeds)
-        self.assertEqual(told[at:at + 4], states[-1])
+        self.assertEqual(told[at : at + 4], states[-1])
         for many, word in enumerate(["run", "settle", "put", "machine", "take", "put", "pair"]):
             at = len(deeds) + 4 + 5 * many
             self.assertEqual(told[at], word)
-            self.assertEqual(told[at + 1:at + 5], states[len(deeds) - 1 - many])
+            self.assertEqual(told[at + 1 : at + 5], states[len(deeds) - 1 - many])
         self.assertEqual(told[-1], "refused CanNot")
 
     def test_what_is_refused_is_no_deed(self):
-        told = desk("put 0 1\ntake 0\nput 1 2\nrun\n run\n take 0\npair\n x\nmachine\n machine 1\n state 1\n ends\nundo\nundo\npast")
-        self.assertEqual(told, ["done", "refused CanNot", "refused Unfit", "refused Unfit", "refused BadLine", "refused Unfit", "put", "refused CanNot", "run"])
+        told = desk(
+            "put 0 1\ntake 0\nput 1 2\nrun\n run\n take 0\npair\n x\n"
+            "machine\n machine 1\n state 1\n ends\nundo\nundo\npast"
+        )
+        self.assertEqual(
+            told,
+            [
+                "done",
+                "refused CanNot",
+                "refused Unfit",
+                "refused Unfit",
+                "refused BadLine",
+                "refused Unfit",
+                "put",
+                "refused CanNot",
+                "run",
+            ],
+        )
 
     def test_a_deed_that_changes_nothing_is_one(self):
-        self.assertEqual(desk("settle\nsettle\nundo\nundo\nundo"), ["done", "done", "settle", "settle", "refused CanNot"])
+        self.assertEqual(
+            desk("settle\nsettle\nundo\nundo\nundo"), ["done", "done", "settle", "settle", "refused CanNot"]
+        )
 
     def test_texts(self):
         for word in TEXTS:
@@ -233,27 +265,38 @@ class PlayTest(unittest.TestCase):
 
     def test_letters(self):
         pair = with_text("pair", pair_text((LATEST, LATEST)))
-        self.assertEqual(desk(pair + "\nput 0 2\nput 0 3\nput 1 999999999\nroads"), ["done", "done"] + ["refused Unfit"] * 2 + ["-, 2"])
+        self.assertEqual(
+            desk(pair + "\nput 0 2\nput 0 3\nput 1 999999999\nroads"),
+            ["done", "done"] + ["refused Unfit"] * 2 + ["-, 2"],
+        )
 
     def test_held(self):
         pair = with_text("pair", pair_text((LATEST, LATEST)))
         machine = with_text("machine", machine_text(samples.LAST))
         # Unlike many letters ahead of what is not at rest.
-        self.assertEqual(desk(pair + "\nput 0 1\nheld\nled\n" + machine + "\nheld\nled\nsettle\nheld\nput 1 2\nheld\nput 0 1\nsettle\nheld\nled")[2:], [
-            "refused Unfit",
-            "refused Unfit",
-            "done",
-            "refused CanNot",
-            "1",
-            "done",
-            "yes",
-            "done",
-            "refused CanNot",
-            "done",
-            "done",
-            "no",
-            "0 1",
-        ])
+        self.assertEqual(
+            desk(
+                pair
+                + "\nput 0 1\nheld\nled\n"
+                + machine
+                + "\nheld\nled\nsettle\nheld\nput 1 2\nheld\nput 0 1\nsettle\nheld\nled"
+            )[2:],
+            [
+                "refused Unfit",
+                "refused Unfit",
+                "done",
+                "refused CanNot",
+                "1",
+                "done",
+                "yes",
+                "done",
+                "refused CanNot",
+                "done",
+                "done",
+                "no",
+                "0 1",
+            ],
+        )
 
     def test_too_many_doings_are_no_hindrance(self):
         machine = samples.ABOVE_48[2]
@@ -290,7 +333,14 @@ class LinesTest(unittest.TestCase):
             self.bad(line + "\n ", 1)
 
     def test_empty_lines(self):
-        for text, line in (("\n", 1), ("roads\n", 2), ("\nroads", 1), ("roads\n\nroads", 2), ("run\n run\n", 3), ("run\n run\n\n x", 3)):
+        for text, line in (
+            ("\n", 1),
+            ("roads\n", 2),
+            ("\nroads", 1),
+            ("roads\n\nroads", 2),
+            ("run\n run\n", 3),
+            ("run\n run\n\n x", 3),
+        ):
             self.bad(text, line)
 
     def test_the_first_one_ahead_of_all(self):
@@ -299,7 +349,9 @@ class LinesTest(unittest.TestCase):
         self.bad("undo\nrun\nroads\nx", 2)
 
     def test_texts_may_be_anything(self):
-        self.assertEqual(desk("run\n " + "x" * 5000 + "\npair\n \u20ac\t\nroads"), ["refused BadLine", "refused BadLine", "-, -"])
+        self.assertEqual(
+            desk("run\n " + "x" * 5000 + "\npair\n \u20ac\t\nroads"), ["refused BadLine", "refused BadLine", "-, -"]
+        )
 
 
 class RequestsTest(unittest.TestCase):
@@ -313,7 +365,7 @@ class RequestsTest(unittest.TestCase):
             self.assertIs(is_request(thing), False, thing)
         for thing in ("roads\nroads", "run\n run\nroads", "run\n run\n", "run\nrun", " run\n run", "run\n\n run"):
             self.assertIs(is_request(thing), False, thing)
-        for thing in samples.ODD_THINGS + list(nests()) + [10 ** 3000, ("roads",), ["roads"]]:
+        for thing in samples.ODD_THINGS + list(nests()) + [10**3000, ("roads",), ["roads"]]:
             self.assertIs(is_request(thing), False)
 
     def test_beside_desk(self):
@@ -323,7 +375,7 @@ class RequestsTest(unittest.TestCase):
         for _ in range(3000):
             text = draw.choice(PLAIN + [own + "\n x" for own in TEXTS])
             at = draw.randrange(len(text) + 1)
-            bent = text[:at] + draw.choice(["", "", " ", "\n", "0", "1", "\n "]) + text[at + draw.randrange(2):]
+            bent = text[:at] + draw.choice(["", "", " ", "\n", "0", "1", "\n "]) + text[at + draw.randrange(2) :]
             try:
                 plain = len(desk(bent)) == 1
             except BadLine:

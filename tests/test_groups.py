@@ -26,6 +26,7 @@ from bothroads.law import is_lawful
 from bothroads.machines import letters_in
 from bothroads.oneroad import one_pair
 from bothroads.runs import is_at_rest, is_run, settled
+from bothroads.weavings import weaving_count
 
 
 def drawn_groups(many, seed, states, letters):
@@ -43,7 +44,11 @@ def drawn_groups(many, seed, states, letters):
 
 # Not least, alike to SPINS: there letter 1 leads two STATES to one.
 TWO_SPINS = (((1, 3), (0, 2), (5, 1), (1, 0), (3, 2), (2, 4)), (0, 3))
-GROUPS = samples.GROUPS + [samples.ODD, samples.FOURS, samples.TWO_ODD, samples.LONE, samples.NEVER] + drawn_groups(14, 171, 5, 2)
+GROUPS = (
+    samples.GROUPS
+    + [samples.ODD, samples.FOURS, samples.TWO_ODD, samples.LONE, samples.NEVER]
+    + drawn_groups(14, 171, 5, 2)
+)
 GROUPS = GROUPS + drawn_groups(6, 172, 4, 3) + [samples.JUST_48[2]]
 SMALL = [own for own in GROUPS if len(doings(own)) <= 24]
 CROSSED = [own for own in SMALL if not commutes(own)]
@@ -101,7 +106,7 @@ def with_fewer(pair, side, letter, marks):
     rows = []
     for row in sent:
         stand, mark = row[letter - 1]
-        rows.append(row[:letter - 1] + ((stand, mark % marks),) + row[letter:])
+        rows.append(row[: letter - 1] + ((stand, mark % marks),) + row[letter:])
     keeper = (told, tuple(rows), heard)
     return (pair[0], keeper) if side == 0 else (keeper, pair[1])
 
@@ -210,7 +215,7 @@ class TellingTest(unittest.TestCase):
             for letter in (1, 2):
                 plain = Plain(machine, letter)
                 for many in (1, 2, 3):
-                    for thing in list(itertools.product(words, repeat=many))[::1 if many < 3 else 11]:
+                    for thing in list(itertools.product(words, repeat=many))[:: 1 if many < 3 else 11]:
                         held = len({plain.told(word) for word in thing}) == many
                         self.assertIs(is_telling(machine, letter, thing), held)
                         told[held] += 1
@@ -242,10 +247,12 @@ class MarksTest(unittest.TestCase):
         for pair in drawn_pairs(30, 173, letters=3):
             for keeper in pair:
                 for letter in (1, 2, 3):
-                    self.assertEqual(marks_with(keeper, letter), tuple(sorted({row[letter - 1][1] for row in keeper[1]})))
+                    self.assertEqual(
+                        marks_with(keeper, letter), tuple(sorted({row[letter - 1][1] for row in keeper[1]}))
+                    )
 
     def test_letters_that_it_has_not(self):
-        for keeper, letter in ((COUNT, 2), (COUNT, 0), (LATEST, 3), (LATEST, -1), (LATEST, 10 ** 9)):
+        for keeper, letter in ((COUNT, 2), (COUNT, 0), (LATEST, 3), (LATEST, -1), (LATEST, 10**9)):
             with self.assertRaises(NoPlace) as caught:
                 marks_with(keeper, letter)
             self.assertEqual(caught.exception.place, letter)
@@ -324,6 +331,35 @@ class FewTest(unittest.TestCase):
                             self.assertIs(plain_refutes(pair, machine, run), True)
         self.assertGreater(plain, 4)
 
+    def test_pairs_that_go_on_in_their_own_order(self):
+        """They are right where there is one WEAVING: letters must cross."""
+        for machine in CROSSED + samples.GROUPS:
+            small = samples.plain_least(machine)
+            keeper = (
+                tuple([state in small[1] for state in range(len(small[0]))]),
+                tuple([tuple([(to, 0) for to in row]) for row in small[0]]),
+                tuple([tuple([(to,) for to in row]) for row in small[0]]),
+            )
+            for letter in letters(machine):
+                for side in (0, 1):
+                    if fewest_marks(machine, letter) > 1:
+                        run = self.check_refutes((keeper, keeper), machine, side, letter)
+                        self.assertGreater(weaving_count(run), 1)
+
+    def test_pairs_that_always_answer_alike(self):
+        """Where letters cross some WEAVING may let such an answer be: it is wrong where there is one WEAVING."""
+        alone = 0
+        for machine in CROSSED:
+            for letter in letters(machine):
+                if fewest_marks(machine, letter) > 1:
+                    for told in (False, True):
+                        many = letters_in(machine)
+                        keeper = ((told,), (((0, 0),) * many,), (((0,),) * many,))
+                        for side in (0, 1):
+                            run = self.check_refutes((keeper, keeper), machine, side, letter)
+                            alone += weaving_count(run) == 1
+        self.assertGreater(alone, 10)
+
     def test_three_letters(self):
         for machine in (samples.CUBE, samples.GROUPS[2]):
             for pair in drawn_pairs(30, 176, letters=3, marks=2, stands=20):
@@ -367,7 +403,7 @@ class ChecksTest(unittest.TestCase):
                 self.check_all(Unfit, machine, letter)
             self.assertRaises(Unfit, group_pair, machine, 1)
         for machine in GROUPS[:6]:
-            for letter in (letters_in(machine) + 1, 0, 10 ** 9):
+            for letter in (letters_in(machine) + 1, 0, 10**9):
                 self.check_all(NoPlace, machine, letter)
         with self.assertRaises(NoPlace) as caught:
             conjugates(WHEEL, 3)

@@ -5,7 +5,22 @@ import unittest
 
 import samples
 from calls import check_calls, check_no_things, nests, spoilt
-from walks import BOTH_BARE, COUNT, CROSS, HEAR, LATEST, LATER, LEAD, MEET, STUCK, History, drawn_pairs, drawn_runs, every_run, plain_answers
+from walks import (
+    BOTH_BARE,
+    COUNT,
+    CROSS,
+    HEAR,
+    LATEST,
+    LATER,
+    LEAD,
+    MEET,
+    STUCK,
+    History,
+    drawn_pairs,
+    drawn_runs,
+    every_run,
+    plain_answers,
+)
 from bothroads.bits import bit_pair
 from bothroads.doings import doing, product
 from bothroads.errors import TooMuch, Unfit
@@ -25,14 +40,14 @@ FREE = [("free", own) for own in samples.ALL]
 LAWFUL = [("lawful", own) for own in samples.ALL]
 LED = [("led", own, run, state) for own in TWO for run in RUNS[::2] for state in (0, 1, 5)] + [
     ("led", samples.NEVER, MEET, 0),
-    ("led", samples.LOCK, MEET, 10 ** 30),
+    ("led", samples.LOCK, MEET, 10**30),
 ]
 HELD = [("held", pair, own, run) for pair in PAIRS for own in TWO[::2] for run in REST]
 MARKS = [
     ("marks", own, letter, many)
     for own in samples.GROUPS + [samples.ODD, samples.TWO_ODD, samples.LONE]
     for letter in range(1, len(own[0][0]) + 1)
-    for many in (1, 2, 3, 4, 10 ** 30)
+    for many in (1, 2, 3, 4, 10**30)
 ]
 KINDS = {"alike": ALIKE, "free": FREE, "lawful": LAWFUL, "led": LED, "held": HELD, "marks": MARKS}
 CLAIMS = [own for row in KINDS.values() for own in row]
@@ -118,6 +133,8 @@ class ClaimsTest(unittest.TestCase):
     def test_what_is_none(self):
         odd, last, spins = samples.ODD, samples.LAST, samples.SPINS
         for thing in (
+            (),
+            ((),),
             ("alike", odd),
             ("alike", odd, last),
             ("alike", odd, odd, odd),
@@ -185,7 +202,7 @@ class ClaimsTest(unittest.TestCase):
         self.assertIs(is_claim(("marks", samples.ABOVE_48[3], 1, 1)), False)
         many = 300
         turning = (tuple([((own + 1) % many, (own + 2) % many) for own in range(many)]), (0,))
-        self.assertIs(is_claim(("marks", turning, 2, 10 ** 40)), True)
+        self.assertIs(is_claim(("marks", turning, 2, 10**40)), True)
         self.assertIs(is_claim(("led", turning, ((0, 1), (1, 0)) * 20000, 1)), True)
         self.assertIs(is_claim(("held", (STUCK, STUCK), samples.LONE, ((0, 1), (1, 0)) * 20000)), True)
 
@@ -220,7 +237,7 @@ class SoTest(unittest.TestCase):
         things += [((0, 1, 2),) * 3, ((0, 1),) * 2, ((0,), (1,)), ((1,), (0,)), ((0,),), ((1, 2), (0, 2), (0, 1))]
         found = {"for": 0, "against": 0, "none": 0}
         for kind, claims in KINDS.items():
-            for claim in claims[::max(1, len(claims) // 25)]:
+            for claim in claims[:: max(1, len(claims) // 25)]:
                 for thing in things:
                     is_for, is_against = plain_for(claim, thing), plain_against(claim, thing)
                     self.assertFalse(is_for and is_against)
@@ -263,10 +280,14 @@ class SoTest(unittest.TestCase):
 
     def test_the_run_of_no_event(self):
         self.assertEqual(paper(("led", samples.LAST, (), 0)), ())
-        self.assertEqual(verdicts((("led", samples.LAST, (), 0), ("led", samples.LAST, (), 1)), ((), ())), ["for", "against"])
+        self.assertEqual(
+            verdicts((("led", samples.LAST, (), 0), ("led", samples.LAST, (), 1)), ((), ())), ["for", "against"]
+        )
         pair = (LATEST, LATEST)
         never, always = samples.LAST, (samples.LAST[0], (0,))
-        self.assertEqual(verdicts((("held", pair, never, ()), ("held", pair, always, ())), ((), ())), ["for", "against"])
+        self.assertEqual(
+            verdicts((("held", pair, never, ()), ("held", pair, always, ())), ((), ())), ["for", "against"]
+        )
 
     def test_states_are_those_of_the_least(self):
         # By TWICE, which has STATES told twice, WORDS that end on 1 lead to STATE 1 of LAST, the least one alike.
@@ -278,7 +299,12 @@ class SoTest(unittest.TestCase):
 
 class VerdictsTest(unittest.TestCase):
     def test_each_at_its_place(self):
-        claims = (("free", samples.ODD), ("free", samples.LAST), ("lawful", samples.LAST), ("alike", samples.ODD, samples.FOURS))
+        claims = (
+            ("free", samples.ODD),
+            ("free", samples.LAST),
+            ("lawful", samples.LAST),
+            ("alike", samples.ODD, samples.FOURS),
+        )
         self.assertEqual(verdicts(claims, ((), (1, 2), (), ())), ["for", "against", "none", "for"])
         self.assertEqual(verdicts(claims, [(), [1, 2], None, []]), ["for", "none", "none", "none"])
         self.assertEqual(verdicts((), ()), [])
@@ -286,7 +312,12 @@ class VerdictsTest(unittest.TestCase):
 
     def test_unlike_many(self):
         claim = ("free", samples.ODD)
-        for claims, things in (((claim,), ()), ((), ((),)), ((claim,), ((), ())), ((("free", samples.ABOVE_48[0]),), ())):
+        for claims, things in (
+            ((claim,), ()),
+            ((), ((),)),
+            ((claim,), ((), ())),
+            ((("free", samples.ABOVE_48[0]),), ()),
+        ):
             self.assertRaises(Unfit, verdicts, claims, things)
 
     def test_first_false(self):
@@ -344,7 +375,7 @@ class ComesOfTest(unittest.TestCase):
                             further.append(("alike", one[1], other[2]))
                         place = 2 if other[0] == "held" else 1
                         if other[0] != "alike" and other[place] == one[1]:
-                            further.append(other[:place] + (one[2],) + other[place + 1:])
+                            further.append(other[:place] + (one[2],) + other[place + 1 :])
             new = [own for at, own in enumerate(further) if own in every and own not in found + further[:at]]
             if not new:
                 return found
@@ -359,7 +390,7 @@ class ComesOfTest(unittest.TestCase):
             every += [("led", own, CROSS, 0), ("led", own, CROSS, 1), ("held", BOTH_BARE[1], own, CROSS)]
         told = {True: 0, False: 0}
         some = [()] + [(own,) for own in every] + list(itertools.combinations(every, 2))[::3]
-        some += [every[at:at + 5:2] + every[-at:-at - 9:-4] for at in range(1, 20)]
+        some += [every[at : at + 5 : 2] + every[-at : -at - 9 : -4] for at in range(1, 20)]
         for given in some:
             found = self.closure(given, every)
             for claim in every:
@@ -401,7 +432,7 @@ class ComesOfTest(unittest.TestCase):
         self.assertIs(comes_of(("led", one, (), 1), (link, ("led", other, run, 1))), False)
         self.assertIs(comes_of(("held", (COUNT, COUNT), one, run), (link, ("held", (COUNT, COUNT), other, run))), True)
         self.assertIs(comes_of(("held", (STUCK, COUNT), one, run), (link, ("held", (COUNT, COUNT), other, run))), False)
-        self.assertIs(comes_of(("marks", one, 1, 10 ** 20), (link, ("marks", other, 1, 10 ** 30))), True)
+        self.assertIs(comes_of(("marks", one, 1, 10**20), (link, ("marks", other, 1, 10**30))), True)
 
 
 class CallsTest(unittest.TestCase):

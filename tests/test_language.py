@@ -1,6 +1,7 @@
 """The files of the package beside those rules of the language document that are plain to look up."""
 
 import ast
+import builtins
 import pathlib
 import re
 import unittest
@@ -19,6 +20,25 @@ BARRED_NAMES = BUILTINS | set(
 )
 BARRED_WORDS = re.compile(
     r"\b(typing|typing_extensions|enum|Enum|Generic|Protocol|ABC|namedtuple|NamedTuple|TypedDict|_wall|_WallAttr)\b"
+)
+METHODS = set(
+    "append clear copy count endswith extend find get index insert isalnum isalpha isdigit islower isspace isupper "
+    "items join keys ljust lower lstrip partition pop remove replace reverse rfind rjust rpartition rsplit rstrip setdefault "
+    "split splitlines startswith strip update upper values zfill bit_length".split()
+)
+# Some of these may stand under rules of their own: the package does without.
+BARRED_FORMS = (
+    ast.Global,
+    ast.Nonlocal,
+    ast.With,
+    ast.Match,
+    ast.Delete,
+    ast.Assert,
+    ast.NamedExpr,
+    ast.Yield,
+    ast.GeneratorExp,
+    ast.AnnAssign,
+    ast.Starred,
 )
 BARRED_NODES = (ast.AsyncFunctionDef, ast.Await, ast.Import, ast.ImportFrom, ast.Div)
 
@@ -89,6 +109,28 @@ class LanguageTest(unittest.TestCase):
             imported = {own.name for node in tree.body if isinstance(node, ast.ImportFrom) for own in node.names}
             self.assertFalse(imported & set(bound_names(tree)), name)
             self.assertIsNone(BARRED_WORDS.search(text), name)
+
+    def test_methods_builtins_and_sets(self):
+        trees = [(name, ast.parse(text)) for name, text in sources()]
+        classes = [node for _, tree in trees for node in ast.walk(tree) if isinstance(node, ast.ClassDef)]
+        own = {node.name for told in classes for node in told.body if isinstance(node, ast.FunctionDef)}
+        for name, tree in trees:
+            held = []
+            for node in ast.walk(tree):
+                if isinstance(node, ast.Call) and isinstance(node.func, ast.Attribute):
+                    self.assertIn(node.func.attr, METHODS | own, (name, node.lineno))
+                # A doctest that has run leaves a builtin called _ behind.
+                if isinstance(node, ast.Name) and hasattr(builtins, node.id) and node.id != "_":
+                    self.assertIn(node.id, BUILTINS, (name, node.lineno))
+                if isinstance(node, ast.Call) and isinstance(node.func, ast.Name) and node.func.id in ("sorted", "len"):
+                    held.extend([id(told) for told in node.args])
+            for node in ast.walk(tree):
+                called = isinstance(node, ast.Call) and isinstance(node.func, ast.Name) and node.func.id == "set"
+                if called or isinstance(node, (ast.Set, ast.SetComp)):
+                    self.assertIn(id(node), held, (name, node.lineno))
+                self.assertNotIsInstance(node, BARRED_FORMS, name)
+                if isinstance(node, ast.Constant) and isinstance(node.value, str):
+                    self.assertNotIn("%", node.value, name)
 
     def test_module_level_is_plain(self):
         for name, text in sources():

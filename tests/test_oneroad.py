@@ -26,7 +26,11 @@ from bothroads.runs import is_at_rest, settled
 from bothroads.stages import room_of, rooms
 from bothroads.trees import tree_of
 
-DRAWN = [own for own in samples.drawn_machines(300, 151, states=4) if len(samples.plain_doings(samples.plain_least(own))) < 20]
+DRAWN = [
+    own
+    for own in samples.drawn_machines(300, 151, states=4)
+    if len(samples.plain_doings(samples.plain_least(own))) < 20
+]
 MACHINES = plainstages.LAWFUL + [own for own in DRAWN if is_lawful(own)][:12]
 RUNS = SOME + drawn_runs(60, 152, events=14, letters=3) + list(every_run(4, 2))[::9]
 SMALL = [samples.LONE, samples.ODD, samples.LIGHT, samples.BEGINS, samples.SWITCH, plainstages.TWO_BEGINS]
@@ -125,8 +129,10 @@ class EndsTest(unittest.TestCase):
                     knows = told.known[1 - side]
                     self.assertEqual(teller[0], plain.led(plain.one, told.letters(knows)))
                     # What the teller will know if it puts nothing behind the last PUT that the hearer took.
-                    taken = [at for at, own in enumerate(knows) if own in told.known[side] and told.puts[own][0] != side]
-                    kept = knows[:taken[-1] + 1] if taken else []
+                    taken = [
+                        at for at, own in enumerate(knows) if own in told.known[side] and told.puts[own][0] != side
+                    ]
+                    kept = knows[: taken[-1] + 1] if taken else []
                     left = [own for own in told.known[side] if own not in kept]
                     doing = plain.led(plain.one, told.letters(kept + left))
                     self.assertEqual(hearer_doing(machine, hearer), doing)
@@ -200,6 +206,17 @@ class ComeTest(unittest.TestCase):
             run = ((0, 1), (1, 1), (0, 0), (1, 0))
             self.assertEqual(ends_behind(machine, run, 0), Plain(machine).ends(run, 0))
 
+    def test_just_so_many_and_more(self):
+        # 160 times 25 is 4,000, 191 times 21 is more; 543 HEARERS are too many, though by 6 TELLERS less than 4,000.
+        just = (((1, 1), (3, 2), (3, 3), (4, 5), (4, 6), (5, 5), (6, 6)), (0, 3, 4, 5))
+        above = (((1, 1, 1), (2, 2, 3), (4, 3, 4), (3, 3, 4), (4, 4, 4)), (1, 2, 4))
+        alike = [
+            (tuple([(min(own + 1, size - 1),) * many for own in range(size)]), (size - 1,))
+            for size, many in ((7, 2), (6, 3))
+        ]
+        self.assertEqual([counts(own) for own in [just, above] + alike], [(160, 25), None, (247, 7), None])
+        self.assertEqual(len(one_pair(just, 0)[0][0]), 160)
+
     def test_many_and_yet_not_too_many(self):
         chain = (tuple([(min(own + 1, 11),) for own in range(12)]), (11,))
         self.assertEqual(counts(chain), (78, 12))
@@ -251,7 +268,9 @@ class PairTest(unittest.TestCase):
                 for run in runs_of(machine)[::2]:
                     for at, stands in enumerate(stands_along(pair, run)):
                         if at % 3 == 0 or at == len(run):
-                            told = tuple([own.index(end) for own, end in zip(ends, ends_behind(machine, run[:at], side))])
+                            told = tuple(
+                                [own.index(end) for own, end in zip(ends, ends_behind(machine, run[:at], side))]
+                            )
                             self.assertEqual(stands if side == 0 else stands[::-1], told)
 
     def test_it_is_right(self):

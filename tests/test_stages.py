@@ -11,7 +11,11 @@ from bothroads.errors import TooMuch, Unfit
 from bothroads.law import is_lawful
 from bothroads.stages import cut_turn, led, room_of, rooms, staying, turn_back, turned, turns_joined, within
 
-DRAWN = [own for own in samples.drawn_machines(160, 131, states=4) if len(samples.plain_doings(samples.plain_least(own))) < 20]
+DRAWN = [
+    own
+    for own in samples.drawn_machines(160, 131, states=4)
+    if len(samples.plain_doings(samples.plain_least(own))) < 20
+]
 MACHINES = plainstages.LAWFUL + [own for own in DRAWN if is_lawful(own)][:25]
 FEW = plainstages.LAWFUL[5:] + samples.GROUPS[:1]
 FULL, NEAR, FAR = rooms(samples.SWITCH)
@@ -51,7 +55,9 @@ class RoomsTest(unittest.TestCase):
         self.assertIn(one, rooms(samples.BEGINS))
         self.assertEqual((within(samples.BEGINS, one), staying(samples.BEGINS, one)), ((), (1, 2)))
         self.assertEqual(turned(samples.BEGINS, one, (1, 2, 2)), (0,))
-        self.assertEqual((turns_joined((0,), (0,)), turn_back((0,)), led(one, (1, 1, 2), (0,))), ((0,), (0,), (1, 1, 2)))
+        self.assertEqual(
+            (turns_joined((0,), (0,)), turn_back((0,)), led(one, (1, 1, 2), (0,))), ((0,), (0,), (1, 1, 2))
+        )
 
     def test_what_letters_lead_to(self):
         """A letter that stays leads one-to-one, and stays within; another one leads strictly within."""
@@ -104,7 +110,7 @@ class TurnsTest(unittest.TestCase):
         for word in ((2,), (1, 2), (2, 1), (1, 1, 2, 1)):
             self.assertRaises(Unfit, turned, samples.SWITCH, FULL, word)
         # A letter that machine has not does not stay either.
-        for word in ((3,), (1, 3), (0,), (1, 10 ** 9)):
+        for word in ((3,), (1, 3), (0,), (1, 10**9)):
             self.assertRaises(Unfit, turned, samples.SWITCH, FULL, word)
             self.assertRaises(Unfit, turned, samples.SWITCH, NEAR, word)
 
@@ -122,7 +128,9 @@ class TurnsTest(unittest.TestCase):
                     for lower in (room,) + within(machine, room):
                         self.assertEqual(cut_turn(room, lower, turn), turned(machine, lower, one))
                     for other in words:
-                        self.assertEqual(turns_joined(turn, turned(machine, room, other)), plain.turn(room, one + other))
+                        self.assertEqual(
+                            turns_joined(turn, turned(machine, room, other)), plain.turn(room, one + other)
+                        )
 
     def test_one_turn_of_a_room_is_one_turn_within(self):
         for machine in MACHINES:

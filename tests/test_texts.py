@@ -69,7 +69,11 @@ class ThereAndBackTest(Case):
                 text = write(value)
                 for _ in range(120):
                     at = draw.randrange(len(text) + 1)
-                    bent = text[:at] + draw.choice(["", "0", "1", "7", " ", "\n", "x", "-", "y"]) + text[at + draw.randrange(2):]
+                    bent = (
+                        text[:at]
+                        + draw.choice(["", "0", "1", "7", " ", "\n", "x", "-", "y"])
+                        + text[at + draw.randrange(2) :]
+                    )
                     try:
                         told = read(bent)
                     except (BadLine, Unfit):
@@ -84,7 +88,7 @@ class ThereAndBackTest(Case):
         self.assertEqual(machine_read(machine_text(machine)), machine)
         run = ((0, 999999999999), (1, 1)) * 900
         self.assertEqual(run_read(run_text(run)), run)
-        keeper = ((True,) * many, (((0, 10 ** 11),),) * many, (((many - 1,) * 8,),) * many)
+        keeper = ((True,) * many, (((0, 10**11),),) * many, (((many - 1,) * 8,),) * many)
         self.assertEqual(keeper_read(keeper_text(keeper)), keeper)
 
     def test_texts_as_they_stand(self):
@@ -141,7 +145,11 @@ class LinesTest(Case):
             ("machine 1\nstate 7\nends 9 8", 3),
         ):
             self.bad(machine_read, text, line)
-        for text in ("machine 1\nstate 1\nends", "machine 1\nstate 0\nends 1", "machine 2\nstate 0 999999999999\nends 0 3"):
+        for text in (
+            "machine 1\nstate 1\nends",
+            "machine 1\nstate 0\nends 1",
+            "machine 2\nstate 0 999999999999\nends 0 3",
+        ):
             self.unfit(machine_read, text)
 
     def test_runs(self):
@@ -168,7 +176,13 @@ class LinesTest(Case):
             ("run\ntake 0\ntake", 3),
         ):
             self.bad(run_read, text, line)
-        for text in ("run\ntake 0", "run\nput 2 1", "run\nput 0 1\ntake 0", "run\nput 0 1\ntake 1\ntake 1", "run\ntake 7"):
+        for text in (
+            "run\ntake 0",
+            "run\nput 2 1",
+            "run\nput 0 1\ntake 0",
+            "run\nput 0 1\ntake 1\ntake 1",
+            "run\ntake 7",
+        ):
             self.unfit(run_read, text)
         self.assertEqual(run_read("run\nput 0 999999999999\ntake 1"), ((0, 999999999999), (1, 0)))
 
@@ -202,7 +216,7 @@ class LinesTest(Case):
             (6, ""),
             (6, "takes 0 0 "),
         ):
-            self.bad(keeper_read, "\n".join(good[:at - 1] + [line] + good[at:]), at)
+            self.bad(keeper_read, "\n".join(good[: at - 1] + [line] + good[at:]), at)
         for many in range(6):
             self.bad(keeper_read, "\n".join(good[:many]), many + 1)
         for line in good + ["", "end"]:
@@ -211,7 +225,7 @@ class LinesTest(Case):
         self.bad(keeper_read, "keeper 2 1\nanswers no\nputs 0 0\ntakes 0 0", 3)
         self.bad(keeper_read, "keeper 999999999999 999999999999\nanswers no\nputs 0 0\ntakes 0 0", 3)
         for at, line in ((3, "puts 2 0"), (4, "takes 1 2"), (5, "puts 9 0"), (6, "takes 999999999999 0")):
-            self.unfit(keeper_read, "\n".join(good[:at - 1] + [line] + good[at:]))
+            self.unfit(keeper_read, "\n".join(good[: at - 1] + [line] + good[at:]))
         # A mark that none takes is no fault of a KEEPER alone.
         self.assertEqual(keeper_read("\n".join(good[:2] + ["puts 1 77"] + good[3:]))[1][0], ((1, 77),))
 
@@ -244,13 +258,22 @@ class LinesTest(Case):
             lines = write(value).split("\n")
             for at, line in enumerate(lines):
                 word, _, rest = line.partition(" ")
-                bent = [" " + line, line + " ", line + " x", "x" + line, line.upper(), word + "  " + rest, "", "\n" + line]
+                bent = [
+                    " " + line,
+                    line + " ",
+                    line + " x",
+                    "x" + line,
+                    line.upper(),
+                    word + "  " + rest,
+                    "",
+                    "\n" + line,
+                ]
                 bent.append(word + " 0" + rest if rest[:1] in list("0123456789") and rest else "x")
                 if word != "ends":
                     bent.append(line + " 0")
                     bent.extend([line.rpartition(" ")[0]] if rest and word != "answers" else [])
                 for own in bent:
-                    self.bad(read, "\n".join(lines[:at] + [own] + lines[at + 1:]), at + 1)
+                    self.bad(read, "\n".join(lines[:at] + [own] + lines[at + 1 :]), at + 1)
 
     def test_other_signs(self):
         for sign in ("~", "!", "-", "+", ".", "_", ",", "'", '"'):

@@ -12,7 +12,11 @@ from bothroads.law import is_lawful
 from bothroads.stages import room_of, rooms, turned, within
 from bothroads.trees import appended, cut, left_behind, put_ahead, tree_of, whole
 
-DRAWN = [own for own in samples.drawn_machines(300, 141, states=4) if len(samples.plain_doings(samples.plain_least(own))) < 20]
+DRAWN = [
+    own
+    for own in samples.drawn_machines(300, 141, states=4)
+    if len(samples.plain_doings(samples.plain_least(own))) < 20
+]
 MACHINES = plainstages.LAWFUL + [own for own in DRAWN if is_lawful(own)][10:30]
 FEW = plainstages.LAWFUL[4:] + [own for own in DRAWN if is_lawful(own)][10:16]
 LIGHT_TOP = ((0, 1, 2), (1, 0, 2), (2, 2, 2))
@@ -54,7 +58,9 @@ class TreesTest(unittest.TestCase):
         self.assertEqual(tree_of(samples.SPINS, spins, (1, 2)), (turned(samples.SPINS, spins, (1, 2)), 0, ()))
         top = rooms(samples.BEGINS)[0]
         one = ((0,), 0, ())
-        self.assertEqual(tree_of(samples.BEGINS, top, (1, 2, 2)), ((0, 1, 2), 1, ((((1, 1, 2),), one), (((2, 1, 2),), one))))
+        self.assertEqual(
+            tree_of(samples.BEGINS, top, (1, 2, 2)), ((0, 1, 2), 1, ((((1, 1, 2),), one), (((2, 1, 2),), one)))
+        )
         # A ROOM of one member, within which there is none: no letter leaves it.
         self.assertEqual(tree_of(samples.BEGINS, ((1, 1, 2),), (1, 2, 1)), one)
 
@@ -103,7 +109,9 @@ class ChangesTest(unittest.TestCase):
             plain = Plain(machine)
             for one in plain.doings:
                 for word in short_words(plain, 3):
-                    self.assertEqual(whole(machine, one, tree_of(machine, plain.room_of[one], word)), plain.led(one, word))
+                    self.assertEqual(
+                        whole(machine, one, tree_of(machine, plain.room_of[one], word)), plain.led(one, word)
+                    )
 
     def test_one_tree_leads_to_one_doing_and_is_one_within(self):
         """WORDS with one TREE lead each member of the ROOM alike, and have one TREE for each ROOM within."""
@@ -141,7 +149,7 @@ class LeftBehindTest(unittest.TestCase):
                     for at in range(len(word) + 1):
                         goal = plain.led(one, word[:at])
                         room = plain.room_of[goal]
-                        turn = plain.turn(room, word[at - plain.since(one, word[:at]):at])
+                        turn = plain.turn(room, word[at - plain.since(one, word[:at]) : at])
                         left = left_behind(machine, one, tree, goal, turn)
                         self.assertEqual(left, plain.tree(room, word[at:]), (machine, one, word, at))
                         ways[room == plain.room_of[one]] += at > 0
@@ -157,9 +165,11 @@ class LeftBehindTest(unittest.TestCase):
                     tree = tree_of(machine, plain.room_of[one], word)
                     for goal in plain.doings:
                         room = plain.room_of[goal]
-                        firsts = [own for own in range(len(word) + 1) if plain.room_of[plain.led(one, word[:own])] == room]
+                        firsts = [
+                            own for own in range(len(word) + 1) if plain.room_of[plain.led(one, word[:own])] == room
+                        ]
                         for turn in {plain.turn(room, own) for own in plain.staying_words(room, 2)}:
-                            can = firsts and room[turn[room.index(plain.led(one, word[:firsts[0]]))]] == goal
+                            can = firsts and room[turn[room.index(plain.led(one, word[: firsts[0]]))]] == goal
                             told[bool(can)] += 1
                             if can:
                                 self.assertEqual(len(left_behind(machine, one, tree, goal, turn)), 3)
@@ -183,6 +193,9 @@ class LeftBehindTest(unittest.TestCase):
             # The other ROOM is never come to, whatever leads on there.
             self.assertFalse(self.can(one, (2, 1, 2, 3), turn))
             self.assertFalse(self.can(one, (2, 3, 2, 1), turn))
+        # What is no TURN of the ROOM leads nowhere.
+        for turn in ((), (0,), (1,), (1, 1), (1, 2), (1, 0, 2), (-1, 0)):
+            self.assertFalse(self.can(one, (3, 3, 2, 1), turn))
 
     def can(self, one, goal, turn):
         try:
@@ -237,7 +250,7 @@ class ChecksTest(unittest.TestCase):
                 tree_of(samples.LIGHT, LIGHT_TOP, word)
             self.assertEqual(caught.exception.place, letter)
         for call in (appended, put_ahead):
-            for letter in (0, 3, 10 ** 9):
+            for letter in (0, 3, 10**9):
                 with self.assertRaises(NoPlace) as caught:
                     call(samples.LIGHT, LIGHT_TOP, tree, letter)
                 self.assertEqual(caught.exception.place, letter)
